@@ -1,0 +1,1 @@
+"""Stillheap: programs that see nothing of their collectors."""
