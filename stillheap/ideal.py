@@ -1,11 +1,12 @@
 """The ideal heap, from which things go only at told turns."""
 
-from stillheap.errors import BadHand, BadView, NoRoom, NoRound, RoundOn, TooManyWords
+from stillheap.errors import BadView, NoRoom, NoRound, RoundOn
+from stillheap.hands import Hands
+from stillheap.lastwords import WordTable
 from stillheap.reach import last_steps
-from stillheap.values import HANDS, WEAK_NAMES, kind_of, look_at_field, look_at_hand, look_at_limits
-from stillheap.values import look_at_name, look_at_number, number_value, thing_value, words_of
-
-MOST_BEARERS = 12
+from stillheap.values import kind_of, look_at_field, look_at_hand, look_at_limits, look_at_number
+from stillheap.values import thing_value, words_of
+from stillheap.weaknames import NameTable
 
 
 class IdealHeap:
@@ -13,13 +14,12 @@ class IdealHeap:
         look_at_limits(young, limit)
         self.young_room = young
         self.limit = limit
-        self.in_hands = [None] * HANDS
-        self.weak_names = [None] * WEAK_NAMES
+        self.in_hands = Hands()
+        self.weak_names = NameTable()
+        self.last_words = WordTable()
         self.fields_held = {}
         self.young_things = {}
         self.doomed_things = {}
-        self.last_words = {}
-        self.words_said = []
         self.next_thing = 0
         self.in_round = False
 
@@ -35,80 +35,65 @@ class IdealHeap:
         self.fields_held[t] = [None] * n
         if self.young_room > 0:
             self.young_things[t] = True
-        self.in_hands[h] = thing_value(t)
+        self.in_hands.put(h, thing_value(t))
 
     def load(self, h, g, k):
         look_at_hand(h)
-        fields = self.fields_held[self.thing_due(g)]
+        fields = self.fields_held[self.in_hands.thing_due(g)]
         look_at_field(k, len(fields))
-        self.in_hands[h] = fields[k]
+        self.in_hands.put(h, fields[k])
 
     def store(self, g, k, h):
-        fields = self.fields_held[self.thing_due(g)]
-        look_at_hand(h)
+        fields = self.fields_held[self.in_hands.thing_due(g)]
+        value = self.in_hands.word_in(h)
         look_at_field(k, len(fields))
-        fields[k] = self.in_hands[h]
+        fields[k] = value
 
     def copy(self, h, g):
-        look_at_hand(h)
-        look_at_hand(g)
-        self.in_hands[h] = self.in_hands[g]
+        self.in_hands.copy(h, g)
 
     def drop(self, h):
-        look_at_hand(h)
-        self.in_hands[h] = None
+        self.in_hands.put(h, None)
 
     def number(self, h, x):
-        look_at_hand(h)
-        self.in_hands[h] = number_value(x)
+        self.in_hands.number(h, x)
 
     def name(self, w, h):
-        t = self.thing_due(h)
-        look_at_name(w)
-        self.weak_names[w] = t
+        t = self.in_hands.thing_due(h)
+        self.weak_names.name(w, t)
 
     def read(self, h, w):
         look_at_hand(h)
-        look_at_name(w)
-        t = self.weak_names[w]
-        self.in_hands[h] = None if t is None else thing_value(t)
+        t = self.weak_names.named(w)
+        self.in_hands.put(h, None if t is None else thing_value(t))
         if t in self.doomed_things:
             self.spare(t)
 
     def word(self, h, x):
-        t = self.thing_due(h)
+        t = self.in_hands.thing_due(h)
         look_at_number(x)
-        if t not in self.last_words and len(self.last_words) >= MOST_BEARERS:
-            raise TooManyWords(f"{MOST_BEARERS} held things bear last words")
-        self.last_words[t] = x
+        self.last_words.bear(t, x)
 
     def take(self):
-        if len(self.words_said) == 0:
-            return None
-        return self.words_said.pop(0)
+        return self.last_words.take()
 
     def kind(self, h):
-        look_at_hand(h)
-        return kind_of(self.in_hands[h])
+        return self.in_hands.kind(h)
 
     def value(self, h):
-        if self.kind(h) != "number":
-            raise BadHand(f"hand {h} holds no number")
-        return self.in_hands[h][1]
+        return self.in_hands.value(h)
 
     def fields(self, h):
-        return len(self.fields_held[self.thing_due(h)])
+        return len(self.fields_held[self.in_hands.thing_due(h)])
 
     def same(self, h, g):
-        look_at_hand(h)
-        look_at_hand(g)
-        return self.in_hands[h] == self.in_hands[g]
+        return self.in_hands.same(h, g)
 
     def held(self):
         return self.words_among(self.fields_held)
 
     def small(self):
-        leads = list(self.in_hands)
+        leads = self.in_hands.all_words()
         for t in self.fields_held:
             if t not in self.young_things:
                 leads.extend(self.fields_held[t])
@@ -122,7 +107,7 @@ class IdealHeap:
             raise RoundOn("a great round is on")
         self.small()
         self.in_round = True
-        kept = self.led_among(self.in_hands, self.fields_held)
+        kept = self.led_among(self.in_hands.all_words(), self.fields_held)
         for t in self.fields_held:
             if t not in kept:
                 self.doomed_things[t] = True
@@ -139,10 +124,10 @@ class IdealHeap:
         return self.in_round
 
     def hands(self):
-        return list(self.in_hands)
+        return self.in_hands.all_words()
 
     def names(self):
-        return list(self.weak_names)
+        return self.weak_names.all_named()
 
     def things(self):
         return sorted(self.fields_held)
@@ -157,21 +142,16 @@ class IdealHeap:
 
     def word_of(self, t):
         self.look_at_held(t)
-        return self.last_words.get(t)
+        return self.last_words.word_of(t)
 
     def doomed(self):
         return sorted(self.doomed_things)
 
     def said(self):
-        return list(self.words_said)
+        return self.last_words.said()
 
     def made(self):
         return self.next_thing
-
-    def thing_due(self, h):
-        if self.kind(h) != "thing":
-            raise BadHand(f"hand {h} holds no thing")
-        return self.in_hands[h][1]
 
     def look_at_held(self, t):
         if t not in self.fields_held:
@@ -194,11 +174,10 @@ class IdealHeap:
             self.doomed_things.pop(other)
 
     def let_go(self, gone):
-        for t in sorted(gone):
+        for t in gone:
             self.fields_held.pop(t)
-            if t in self.last_words:
-                self.words_said.append(self.last_words.pop(t))
-        self.weak_names = [t if t in self.fields_held else None for t in self.weak_names]
+        self.weak_names.settle(gone)
+        self.last_words.settle(gone)
 
 
 def thing_among(value, things):

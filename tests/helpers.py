@@ -1,6 +1,8 @@
 """What the tests share: a heap's whole standing, and refusals as names."""
 
 from stillheap.errors import HeapError
+from stillheap.layout import lay
+from stillheap.memory import Memory
 
 
 def refusal(call, *parts):
@@ -29,6 +31,27 @@ def all_told(heap):
         "round": heap.round_on(),
         "kinds": [heap.kind(h) for h in range(8)],
     }
+
+
+def words(memory):
+    """All words of a memory, in order."""
+    return [memory.at(a) for a in range(memory.size())]
+
+
+def memory_of(given):
+    """A memory of just these words."""
+    memory = Memory(len(given))
+    for a, word in enumerate(given):
+        memory.put(a, word)
+    return memory
+
+
+def laid_out(size, things):
+    """A memory with things, each told as (address, number, fields' words)."""
+    memory = Memory(size)
+    for a, t, values in things:
+        lay(memory, a, t, values)
+    return memory
 
 
 def thing_numbers(values):

@@ -3,19 +3,9 @@ import unittest
 from stillheap.errors import BadAddress
 from stillheap.layout import field_at, lay, move, put_field, resolved, thing_at, walked
 from stillheap.memory import Memory
+from tests.helpers import memory_of, words
 
 SIX = [None, ("number", 1), ("at", 0), ("number", -2), None, ("at", 90)]
-
-
-def words(memory):
-    return [memory.at(a) for a in range(memory.size())]
-
-
-def memory_of(given):
-    memory = Memory(len(given))
-    for a, word in enumerate(given):
-        memory.put(a, word)
-    return memory
 
 
 class LayoutCase(unittest.TestCase):
