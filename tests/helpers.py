@@ -3,6 +3,7 @@
 from stillheap.errors import HeapError
 from stillheap.layout import lay
 from stillheap.memory import Memory
+from stillheap.pictures import first_unlike
 
 
 def refusal(call, *parts):
@@ -12,6 +13,23 @@ def refusal(call, *parts):
     except HeapError as error:
         return error.called()
     return None
+
+
+def at(a):
+    return ("at", a)
+
+
+def head(t, n):
+    return ("head", t, n)
+
+
+def rows_behind(hall, call, *parts):
+    """The rows that a deed or turn adds to the log, whether it is refused or not."""
+    before = hall.log()
+    refusal(call, *parts)
+    log = hall.log()
+    assert log[:len(before)] == before
+    return log[len(before):]
 
 
 def all_told(heap):
@@ -31,6 +49,26 @@ def all_told(heap):
         "round": heap.round_on(),
         "kinds": [heap.kind(h) for h in range(8)],
     }
+
+
+def hall_told(hall):
+    """All that a hall with a collector tells to witnesses and askers, as lists of its own."""
+    told = {
+        "memory": words(hall.memory()),
+        "hands": list(hall.hands()),
+        "names": list(hall.names()),
+        "book": list(hall.book()),
+        "left": hall.left(),
+        "cost": hall.cost(),
+        "log": list(hall.log()),
+        "held": hall.held(),
+        "round": hall.round_on(),
+        "kinds": [hall.kind(h) for h in range(8)],
+    }
+    for name in ("half", "remembered", "colours"):
+        if hasattr(hall, name):
+            told[name] = getattr(hall, name)()
+    return told
 
 
 def words(memory):
@@ -111,3 +149,174 @@ NO_VIEWS = (
     ([], {-1: []}),
     ([0], {0: [], -2: []}),
 )
+
+
+class LogReader:
+    """Goes through a log as 12.2 tells, by whole passes; a row that is not right is an AssertionError."""
+
+    def __init__(self, log):
+        assert log[0][0] == "room" and log[0][2] in (True, False)
+        self.size, self.makes_young = log[0][1], log[0][2]
+        self.hands, self.names = [None] * 8, [None] * 8
+        self.fields, self.words, self.stands, self.young = {}, {}, {}, set()
+        self.made, self.gone, self.on = 0, [], False
+        self.at_begin, self.white, self.owed, self.let, self.looked = set(), set(), set(), set(), set()
+        self.read_on(log, 1)
+
+    def read_on(self, log, place):
+        for row in log[place:]:
+            getattr(self, "row_" + row[0])(*row[1:])
+
+    def thing(self, h):
+        assert self.hands[h][0] == "thing"
+        return self.hands[h][1]
+
+    def use(self, t, n, a):
+        taken = {b + i for u, b in self.stands.items() for i in range(len(self.fields[u]) + 1)}
+        cells = set(range(a, a + n + 1))
+        assert not cells & taken and a >= 0 and a + n < self.size
+        self.stands[t] = a
+
+    def pending(self, t, k):
+        """What white thing a field, not looked at yet, of a thing of the beginning tells."""
+        told = self.fields[t][k]
+        if t in self.at_begin and (t, k) not in self.looked and told is not None and told[0] == "thing":
+            return {told[1]} & self.white
+        return set()
+
+    def row_make(self, h, n, t, a):
+        assert t == self.made
+        self.made += 1
+        self.use(t, n, a)
+        self.fields[t] = [None] * n
+        self.hands[h] = ("thing", t)
+        if self.makes_young:
+            self.young.add(t)
+
+    def row_load(self, h, g, k):
+        self.let |= self.pending(self.thing(g), k)
+        self.hands[h] = self.fields[self.thing(g)][k]
+
+    def row_store(self, g, k, h):
+        self.owed |= self.pending(self.thing(g), k)
+        self.fields[self.thing(g)][k] = self.hands[h]
+
+    def row_copy(self, h, g):
+        self.hands[h] = self.hands[g]
+
+    def row_drop(self, h):
+        self.hands[h] = None
+
+    def row_number(self, h, x):
+        self.hands[h] = ("number", x)
+
+    def row_name(self, w, h):
+        self.names[w] = self.thing(h)
+
+    def row_read(self, h, w):
+        t = self.names[w]
+        self.hands[h] = None if t is None else ("thing", t)
+        self.owed |= {t} & self.white
+
+    def row_word(self, h, x):
+        self.words[self.thing(h)] = x
+
+    def go(self, gone):
+        for t in gone:
+            del self.fields[t], self.stands[t]
+            self.words.pop(t, None)
+        self.names = [None if t in gone else t for t in self.names]
+        self.gone.append(sorted(gone))
+
+    def row_small(self):
+        starts = thing_numbers(self.hands)
+        for t in set(self.fields) - self.young:
+            starts += thing_numbers(self.fields[t])
+        kept = led_by(set(starts) & self.young, lambda t: set(thing_numbers(self.fields[t])) & self.young)
+        gone = self.young - kept
+        self.young = set()
+        self.go(gone)
+
+    def row_begin(self):
+        assert not self.on and not self.young
+        self.on = True
+        self.at_begin, self.white = set(self.fields), set(self.fields)
+        self.owed, self.let, self.looked = set(thing_numbers(self.hands)), set(), set()
+
+    def row_shade(self, t):
+        assert self.on and t in self.white and t in self.owed | self.let
+        self.white.remove(t)
+
+    def row_look(self, t, k):
+        assert self.on and t in self.at_begin - self.white and (t, k) not in self.looked
+        assert 0 <= k < len(self.fields[t])
+        self.owed |= self.pending(t, k)
+        self.looked.add((t, k))
+
+    def row_move(self, t, a):
+        self.use(t, len(self.fields[t]), a)
+
+    def row_end(self):
+        assert self.on and not self.owed & self.white
+        shaded = self.at_begin - self.white
+        assert {(t, k) for t in shaded for k in range(len(self.fields[t]))} == self.looked
+        self.on = False
+        gone = self.white
+        self.at_begin, self.white = set(), set()
+        self.go(gone)
+
+
+class Mirror:
+    """A hall with a collector beside the ideal heap that is told only the turns."""
+
+    def __init__(self, hall, ideal):
+        self.hall, self.ideal = hall, ideal
+        self.rows, self.reader = 0, None
+
+    def both(self, deed, *parts):
+        """A deed on both: the same told, or the same refusal; a pair (told, refusal's name)."""
+        answers = []
+        for heap in (self.hall, self.ideal):
+            try:
+                answers.append((getattr(heap, deed)(*parts), None))
+            except HeapError as error:
+                answers.append((None, error.called()))
+        assert answers[0] == answers[1], (deed, parts, answers)
+        return answers[0]
+
+    def step(self, k):
+        ended = self.hall.step(k)
+        if ended:
+            self.ideal.end()
+        return ended
+
+    def asked(self):
+        """All that is asked of hands, by both."""
+        for h in range(-1, 9):
+            for ask in ("kind", "value", "fields"):
+                self.both(ask, h)
+            for g in range(-1, 9):
+                self.both("same", h, g)
+        self.both("held")
+        self.both("round_on")
+
+    def unlike(self):
+        """What is first not so of the hall's picture of the ideal heap."""
+        hall = self.hall
+        return first_unlike(self.ideal, hall.memory(), hall.hands(), hall.names(), hall.book())
+
+    def read_log(self):
+        """Reads the rows that are new in the hall's log; what they lead to is what the ideal heap holds."""
+        log = self.hall.log()
+        if self.reader is None:
+            self.reader = LogReader(log)
+        else:
+            self.reader.read_on(log, self.rows)
+        self.rows = len(log)
+        reader, ideal = self.reader, self.ideal
+        assert sorted(reader.stands.items()) == self.hall.book()
+        assert sorted(reader.fields) == ideal.things()
+        assert reader.hands == ideal.hands() and reader.names == ideal.names()
+        assert [reader.fields[t] for t in ideal.things()] == [ideal.fields_of(t) for t in ideal.things()]
+        assert reader.young == {t for t in ideal.things() if not ideal.is_old(t)}
+        assert reader.words == {t: ideal.word_of(t) for t in ideal.things() if ideal.word_of(t) is not None}

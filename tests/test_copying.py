@@ -4,12 +4,7 @@ import unittest
 from stillheap.copying import copied, copied_words
 from stillheap.layout import lay, thing_at
 from stillheap.memory import Memory
-from tests.helpers import laid_out, memory_of, refusal, words
-
-
-def at(a):
-    return ("at", a)
-
+from tests.helpers import at, laid_out, memory_of, refusal, words
 
 FIVE = ("number", 5)
 

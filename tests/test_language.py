@@ -2,6 +2,7 @@
 
 import ast
 import builtins
+import functools
 import os
 import re
 import unittest
@@ -49,6 +50,7 @@ def text_of(name):
         return file.read()
 
 
+@functools.lru_cache(maxsize=None)
 def trees():
     return {name: ast.parse(text_of(name)) for name in files()}
 
