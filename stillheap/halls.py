@@ -3,7 +3,7 @@
 from stillheap.errors import BadCount, NoRoom, NoRound, RoundOn
 from stillheap.hands import Hands
 from stillheap.lastwords import WordTable
-from stillheap.values import WEAK_NAMES, kind_of, look_at_field, look_at_hand, look_at_limits
+from stillheap.values import HANDS, WEAK_NAMES, kind_of, look_at_field, look_at_hand, look_at_limits
 from stillheap.values import look_at_name, look_at_number, words_of
 from stillheap.young import YoungRoom
 
@@ -13,8 +13,8 @@ MOST_STEP = 1000
 # A thing is told by its address here, as the words of memory tell it. The
 # classes under this one bring the memory, and what their collectors do:
 # thing_standing, put_word and place_new; field_told, ahead_of_store and
-# name_told, which are asked behind a deed's row; small_round, begin_round,
-# look, left and end_round.
+# name_told, which are asked behind a deed's row; begin_round, look, left and
+# end_round; and, for a young room, grown and leave_young.
 class Hall:
     def __init__(self, young, limit, words):
         look_at_limits(young, limit)
@@ -117,7 +117,8 @@ class Hall:
 
     def small(self):
         self.tell_deed(("small",))
-        self.small_round()
+        if self.young.is_there():
+            self.small_round()
         self.young.leave()
 
     def begin(self):
@@ -171,6 +172,26 @@ class Hall:
 
     def tells_young(self, word):
         return kind_of(word) == "at" and self.young.has(self.thing_standing(word[1])[0])
+
+    # The remembered fields, then those of the things that grew old, each once.
+    def small_round(self):
+        fields = self.young.remembered_fields()
+        for h in range(HANDS):
+            self.in_hands.put(h, self.grown(self.in_hands.word_in(h), fields))
+        done = 0
+        while done < len(fields):
+            self.look_young(fields[done], fields)
+            done += 1
+        self.leave_young()
+
+    def look_young(self, field, fields):
+        a = self.stands[field[0]]
+        k = field[1]
+        self.fields_looked += 1
+        self.put_word(a, k, self.grown(self.thing_standing(a)[1][k], fields))
+
+    def fields_within(self, t):
+        return [(t, k) for k in range(self.sizes[t] - 1)]
 
     def let_go(self, gone):
         for t in gone:

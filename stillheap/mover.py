@@ -37,10 +37,6 @@ class MovingHall(Hall):
     def address_new(self, size):
         return self.halves.place_down(size)
 
-    # Nothing is young where there is no young room.
-    def small_round(self):
-        return None
-
     def begin_round(self):
         self.halves.turn()
         for h in range(HANDS):
@@ -85,9 +81,6 @@ class MovingHall(Hall):
         self.stands[t] = b
         self.words_laid += self.sizes[t]
         self.rows.append(("move", t, b))
-
-    def fields_within(self, t):
-        return [(t, k) for k in range(self.sizes[t] - 1)]
 
     def is_unmoved(self, word, room):
         return word is not None and self.told_anew(word, room) is None

@@ -23,6 +23,12 @@ class YoungRoom:
     def has(self, t):
         return t in self.young_things
 
+    def grow_old(self, t):
+        self.young_things.pop(t)
+
+    def things_left(self):
+        return sorted(self.young_things)
+
     # An old thing's field got a value: it is remembered just while it tells
     # a young thing, so the one that it told before does not count.
     def note(self, t, k, tells_young):

@@ -4,15 +4,18 @@ import random
 import unittest
 
 from stillheap.ideal import IdealHeap
+from stillheap.marker import Marker
 from stillheap.mover import OldMover
 from stillheap.moving import Mover
 from stillheap.programs import read_program
 from stillheap.running import Running
-from tests.helpers import Mirror, hall_told
+from tests.helpers import Mirror, hall_told, words
 
 STEPS = (1, 1, 1, 2, 3, 5, 1000)
 HALLS = tuple((lambda young, limit: OldMover(limit), 0, limit) for limit in (7, 30, 60, 400)) + tuple(
-    (Mover, young, limit) for young, limit in ((0, 40), (7, 7), (7, 40), (9, 30), (20, 60), (64, 100), (64, 400)))
+    (Mover, young, limit) for young, limit in ((0, 40), (7, 7), (7, 40), (9, 30), (20, 60), (64, 100), (64, 400))) + tuple(
+    (Marker, young, limit) for young, limit in (
+        (0, 7), (0, 40), (0, 400), (7, 7), (7, 40), (9, 30), (20, 60), (64, 64), (64, 100), (64, 400)))
 
 
 class Dealing(Mirror):
@@ -23,7 +26,7 @@ class Dealing(Mirror):
         self.case, self.young, self.limit = case, young, limit
         self.dealer = random.Random(f"{young} {limit} {seed}")
         self.turning = self.dealer.choice((1, 2, 5))
-        self.expected = []
+        self.expected, self.boxes = [], {}
 
     def any_hand(self):
         return self.dealer.choice([-1, 8] + list(range(8)) * 6)
@@ -51,6 +54,8 @@ class Dealing(Mirror):
         """The greatest cost that 13.3 lets a deed or turn have."""
         remembered = len(before.get("remembered", ()))
         small = (remembered + self.young, self.young) if self.young else (0, 0)
+        if "colours" in before:
+            small = (before["held"] - len(before["book"]), 0)
         bounds = {"load": (0, 7), "store": (0, 7), "read": (0, 7), "make": small if small_done else (0, 0),
                   "small": small, "begin": (small[0], small[1] + 56), "step": None}
         return bounds.get(deed, (0, 0))
@@ -61,12 +66,36 @@ class Dealing(Mirror):
         self.case.assertLessEqual(cost[1], bound[1])
         self.case.assertIsNone(self.unlike())
         self.read_log()
+        if hasattr(self.hall, "half"):
+            self.check_hands()
+        else:
+            self.case.assertEqual(cost[1], 0)
+            self.check_boxes()
+        if self.dealer.randrange(8) == 0:
+            self.asked()
+
+    def check_hands(self):
+        """No hand holds an address in the half of before."""
         limit, half = self.limit, self.hall.half()
         for word in self.hall.hands():
             if word is not None and word[0] == "at":
                 self.case.assertTrue(half <= word[1] < half + limit or word[1] >= 2 * limit, word)
-        if self.dealer.randrange(8) == 0:
-            self.asked()
+
+    def check_boxes(self):
+        """Things stay in their boxes, a made one is in the least that is free, and all other words are None."""
+        book = dict(self.hall.book())
+        memory = self.hall.memory()
+        self.case.assertEqual(memory.size(), 7 * self.limit)
+        expected = [None] * memory.size()
+        for t, a in book.items():
+            self.case.assertEqual(self.boxes.setdefault(t, a), a)
+            for i in range(len(self.ideal.fields_of(t)) + 1):
+                expected[a + i] = memory.at(a + i)
+        self.case.assertEqual(words(memory), expected)
+        last = self.hall.log()[-1]
+        if last[0] == "make":
+            others = [a for t, a in book.items() if t != last[3]]
+            self.case.assertEqual(last[4], min(a for a in range(0, 7 * self.limit, 7) if a not in others))
 
     def deed(self):
         deed = self.dealt_deed()
@@ -106,6 +135,8 @@ class Dealing(Mirror):
                 self.turn()
             else:
                 self.deed()
+        while self.both("take")[0] is not None:
+            pass
         programs = [row for row in self.hall.log() if row[0] not in (
             "room", "small", "begin", "shade", "look", "move", "end")]
         self.case.assertEqual([row[:3] if row[0] == "make" else row for row in programs], self.expected)

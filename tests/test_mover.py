@@ -2,7 +2,7 @@ import unittest
 
 from stillheap.ideal import IdealHeap
 from stillheap.mover import OldMover
-from tests.helpers import LogReader, Mirror, at, hall_told, head, refusal, rows_behind, words
+from tests.helpers import HallRefusals, LogReader, Mirror, at, hall_told, head, refusal, rows_behind, words
 
 FIVE = ("number", 5)
 DEEDS = ("make", "load", "store", "copy", "drop", "number", "name", "read", "word")
@@ -451,102 +451,9 @@ class LogTest(unittest.TestCase):
         self.assertEqual(LogReader(hall.log()).gone, [[], [], [4]])
 
 
-class RefusalTest(unittest.TestCase):
-    def halls(self):
-        """Halls with a thing of two fields in hand 0, a number in hand 1, weak name 0, in and out of a round."""
-        for begun in (False, True):
-            hall = OldMover(7)
-            hall.make(0, 2)
-            hall.number(1, 5)
-            hall.name(0, 0)
-            hall.make(2, 0)
-            hall.store(0, 0, 2)
-            hall.drop(2)
-            if begun:
-                hall.begin()
-            yield hall
-
-    def assert_refused(self, name, deed, *parts):
-        for hall in self.halls():
-            hall.load(3, 0, 0)
-            hall.drop(3)
-            hall.copy(3, 0)
-            before = hall_told(hall)
-            self.assertEqual(refusal(getattr(hall, deed), *parts), name, (deed, parts))
-            self.assertEqual(hall_told(hall), before)
-
-    def test_hands(self):
-        for h in (-1, 8):
-            cases = (("make", h, 7), ("load", h, 9, 9), ("load", 0, h, 9), ("store", h, 9, 9), ("store", 0, 9, h),
-                     ("copy", h, 9), ("copy", 0, h), ("drop", h), ("number", h, 10 ** 61), ("name", 9, h),
-                     ("read", h, 9), ("word", h, 10 ** 61), ("kind", h), ("value", h), ("fields", h), ("same", h, 9),
-                     ("same", 0, h), ("load", h, 0, 0), ("store", 0, 0, h), ("copy", h, 0), ("read", h, 0), ("make", h, 0))
-            for deed in cases:
-                self.assert_refused("BadHand", *deed)
-
-    def test_hands_that_hold_no_thing_or_no_number(self):
-        for h in (1, 7):
-            for deed in (("load", 0, h, 9), ("store", h, 9, 9), ("name", 9, h), ("word", h, 10 ** 61), ("fields", h)):
-                self.assert_refused("BadHand", *deed)
-        for h in (0, 7):
-            self.assert_refused("BadHand", "value", h)
-
-    def test_names(self):
-        for w in (-1, 8):
-            self.assert_refused("BadName", "name", w, 0)
-            self.assert_refused("BadName", "read", 0, w)
-
-    def test_fields(self):
-        for k in (-1, 2, 6):
-            self.assert_refused("BadField", "load", 7, 0, k)
-            self.assert_refused("BadField", "store", 0, k, 7)
-
-    def test_counts(self):
-        for n in (-1, 7):
-            self.assert_refused("BadCount", "make", 0, n)
-        for x in (10 ** 60 + 1, -10 ** 60 - 1):
-            self.assert_refused("BadCount", "number", 0, x)
-            self.assert_refused("BadCount", "word", 0, x)
-
-    def test_no_room(self):
-        for n in (3, 6):
-            self.assert_refused("NoRoom", "make", 0, n)
-
-    def test_too_many_words(self):
-        hall = OldMover(20)
-        for x in range(12):
-            hall.make(0, 0)
-            hall.word(0, x)
-        hall.make(1, 0)
-        for begun in (False, True):
-            if begun:
-                hall.begin()
-            before = hall_told(hall)
-            self.assertEqual(refusal(hall.word, 1, 10 ** 60 + 1), "BadCount")
-            self.assertEqual(refusal(hall.word, 1, 5), "TooManyWords")
-            self.assertEqual(hall_told(hall), before)
-        hall.word(0, 9)
-        hall.step(1)
-        hall.word(1, 5)
-        self.assertEqual([hall.take() for _ in range(12)], list(range(11)) + [None])
-
-    def test_rounds(self):
-        hall = OldMover(20)
-        for k in (0, -1, 1001, 10 ** 60):
-            self.assertEqual(refusal(hall.step, k), "BadCount")
-        for k in (1, 1000):
-            self.assertEqual(refusal(hall.step, k), "NoRound")
-        self.assertEqual(hall_told(hall), hall_told(OldMover(20)))
-        hall.make(0, 3)
-        hall.begin()
-        before = hall_told(hall)
-        self.assertEqual(refusal(hall.begin), "RoundOn")
-        for k in (0, -1, 1001):
-            self.assertEqual(refusal(hall.step, k), "BadCount")
-        self.assertEqual(hall_told(hall), before)
-        self.assertIs(hall.step(1), False)
-        self.assertIs(hall.step(1000), True)
-        self.assertEqual(refusal(hall.step, 1), "NoRound")
+class RefusalTest(HallRefusals, unittest.TestCase):
+    def new_hall(self, limit):
+        return OldMover(limit)
 
 
 class CostTest(unittest.TestCase):
