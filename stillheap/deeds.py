@@ -42,3 +42,18 @@ def read_log(text):
 def log_row(line):
     words = line.split(" ")
     return row_read(words, FORMS[words[0]]) if words[0] in FORMS else None
+
+
+# Of any tuple of texts, numbers, True and False.
+def is_log_row(row):
+    if len(row) == 0 or row[0] not in FORMS:
+        return False
+    form = FORMS[row[0]]
+    parts = row[1:]
+    return len(parts) == len(form) and all([is_part(part, kind) for part, kind in zip(parts, form)])
+
+
+def is_part(part, kind):
+    if kind == "age":
+        return isinstance(part, bool)
+    return isinstance(part, int) and not isinstance(part, bool)

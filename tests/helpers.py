@@ -1,9 +1,11 @@
 """What the tests share: a heap's whole standing, and refusals as names."""
 
 from stillheap.errors import HeapError
+from stillheap.ideal import IdealHeap
 from stillheap.layout import lay
 from stillheap.memory import Memory
 from stillheap.pictures import first_unlike
+from stillheap.running import Running
 
 
 def refusal(call, *parts):
@@ -151,74 +153,159 @@ NO_VIEWS = (
 )
 
 
+def dealt_row(dealer, plain):
+    """Any row that does not jump; a plain one is none of read, take, held and word."""
+    h, g, k, w = dealer.randrange(8), dealer.randrange(8), dealer.randrange(4), dealer.randrange(3)
+    rows = [("make", h, dealer.choice((0, 1, 1, 2, 2, 3, 6)))] * 5 + [("load", h, g, k)] * 6 + [("store", g, k, h)] * 7
+    rows += [("drop", h)] * 5 + [("copy", h, g), ("number", h, k), ("add", h, g), ("less", h, g), ("name", w, h), ("say", h)]
+    if not plain:
+        rows += [("read", h, w)] * 3 + [("take", h), ("held", h), ("word", h, g), ("word", h, g)]
+    return dealer.choice(rows)
+
+
+def dealt_program(dealer, many, plain=False):
+    """A program in a loop, of rows of which few or none (where they are plain) are refused; hands are empty when it goes round."""
+    heap, rows = IdealHeap(0, 400), [("mark", "again")]
+    while len(rows) < many - 9:
+        row = dealt_row(dealer, plain)
+        run = Running((row,), heap)
+        run.step()
+        if run.fault() is None or not plain and dealer.randrange(400) == 0:
+            rows.append(row)
+            heap.begin()
+            heap.end()
+    return tuple(rows + [("drop", h) for h in range(8)] + [("go", "again")])
+
+
+class Wrong(Exception):
+    """Why a row of a log is not right."""
+
+
+def need(holds, why):
+    if not holds:
+        raise Wrong(why)
+
+
+# For each word of a log's rows what its parts are: n a number, b True or False.
+LOG_FORMS = {
+    "room": "nb", "load": "nnn", "store": "nnn", "copy": "nn", "drop": "n", "number": "nn", "name": "nn", "read": "nn",
+    "word": "nn", "make": "nnnn", "small": "", "begin": "", "shade": "n", "look": "nn", "move": "nn", "end": "",
+}
+
+
+def form_of(row):
+    return "".join({int: "n", bool: "b"}.get(type(part), "t") for part in row[1:])
+
+
 class LogReader:
-    """Goes through a log as 12.2 tells, by whole passes; a row that is not right is an AssertionError."""
+    """Goes through a log as 12.2 tells, by whole passes.
+
+    wrong is None where all rows are right, else the place of the first one that is not, and why.
+    """
 
     def __init__(self, log):
-        assert log[0][0] == "room" and log[0][2] in (True, False)
-        self.size, self.makes_young = log[0][1], log[0][2]
         self.hands, self.names = [None] * 8, [None] * 8
         self.fields, self.words, self.stands, self.young = {}, {}, {}, set()
         self.made, self.gone, self.on = 0, [], False
         self.at_begin, self.white, self.owed, self.let, self.looked = set(), set(), set(), set(), set()
+        self.wrong = None
+        if not log or log[0][:1] != ("room",) or form_of(log[0]) != "nb":
+            self.wrong = (0, "form")
+            return
+        self.size, self.makes_young = log[0][1], log[0][2]
         self.read_on(log, 1)
 
     def read_on(self, log, place):
-        for row in log[place:]:
-            getattr(self, "row_" + row[0])(*row[1:])
+        for at in range(place, len(log)):
+            try:
+                row = log[at]
+                need(row and row[0] in LOG_FORMS and row[0] != "room" and form_of(row) == LOG_FORMS[row[0]], "form")
+                getattr(self, "row_" + row[0])(*row[1:])
+            except Wrong as wrong:
+                self.wrong = (at, str(wrong))
+                return
+
+    def told(self):
+        """What judged tells of the log."""
+        return ("right", self.gone) if self.wrong is None else ("wrong",) + self.wrong
+
+    def standing(self):
+        """What standing tells behind a right log."""
+        return (sorted(self.white), sorted(self.unlooked()), sorted(self.stands.items()))
+
+    def unlooked(self):
+        shaded = self.at_begin - self.white
+        return {(t, k) for t in shaded for k in range(len(self.fields[t]))} - self.looked
+
+    def need_hands(self, *hands):
+        for h in hands:
+            need(0 <= h <= 7, "deed")
 
     def thing(self, h):
-        assert self.hands[h][0] == "thing"
+        self.need_hands(h)
+        need(self.hands[h] is not None and self.hands[h][0] == "thing", "deed")
         return self.hands[h][1]
 
     def use(self, t, n, a):
         taken = {b + i for u, b in self.stands.items() for i in range(len(self.fields[u]) + 1)}
-        cells = set(range(a, a + n + 1))
-        assert not cells & taken and a >= 0 and a + n < self.size
+        need(not set(range(a, a + n + 1)) & taken and a >= 0 and a + n < self.size, "room")
         self.stands[t] = a
 
     def pending(self, t, k):
         """What white thing a field, not looked at yet, of a thing of the beginning tells."""
+        need(t in self.fields and 0 <= k < len(self.fields[t]), "deed")
         told = self.fields[t][k]
         if t in self.at_begin and (t, k) not in self.looked and told is not None and told[0] == "thing":
             return {told[1]} & self.white
         return set()
 
     def row_make(self, h, n, t, a):
-        assert t == self.made
-        self.made += 1
+        self.need_hands(h)
+        need(0 <= n <= 6, "deed")
+        need(t == self.made, "number")
         self.use(t, n, a)
+        self.made += 1
         self.fields[t] = [None] * n
         self.hands[h] = ("thing", t)
         if self.makes_young:
             self.young.add(t)
 
     def row_load(self, h, g, k):
+        self.need_hands(h)
         self.let |= self.pending(self.thing(g), k)
         self.hands[h] = self.fields[self.thing(g)][k]
 
     def row_store(self, g, k, h):
+        self.need_hands(h)
         self.owed |= self.pending(self.thing(g), k)
         self.fields[self.thing(g)][k] = self.hands[h]
 
     def row_copy(self, h, g):
+        self.need_hands(h, g)
         self.hands[h] = self.hands[g]
 
     def row_drop(self, h):
+        self.need_hands(h)
         self.hands[h] = None
 
     def row_number(self, h, x):
+        self.need_hands(h)
+        need(-10 ** 60 <= x <= 10 ** 60, "deed")
         self.hands[h] = ("number", x)
 
     def row_name(self, w, h):
+        need(0 <= w <= 7, "deed")
         self.names[w] = self.thing(h)
 
     def row_read(self, h, w):
+        self.need_hands(h)
+        need(0 <= w <= 7, "deed")
         t = self.names[w]
         self.hands[h] = None if t is None else ("thing", t)
         self.owed |= {t} & self.white
 
     def row_word(self, h, x):
+        need(-10 ** 60 <= x <= 10 ** 60 and (self.thing(h) in self.words or len(self.words) < 12), "deed")
         self.words[self.thing(h)] = x
 
     def go(self, gone):
@@ -238,28 +325,31 @@ class LogReader:
         self.go(gone)
 
     def row_begin(self):
-        assert not self.on and not self.young
+        need(not self.on and not self.young, "round")
         self.on = True
         self.at_begin, self.white = set(self.fields), set(self.fields)
         self.owed, self.let, self.looked = set(thing_numbers(self.hands)), set(), set()
 
     def row_shade(self, t):
-        assert self.on and t in self.white and t in self.owed | self.let
+        need(self.on, "round")
+        need(t in self.fields, "deed")
+        need(t in self.white and t in self.owed | self.let, "colour")
         self.white.remove(t)
 
     def row_look(self, t, k):
-        assert self.on and t in self.at_begin - self.white and (t, k) not in self.looked
-        assert 0 <= k < len(self.fields[t])
-        self.owed |= self.pending(t, k)
+        need(self.on, "round")
+        met = self.pending(t, k)
+        need(t in self.at_begin - self.white and (t, k) not in self.looked, "colour")
+        self.owed |= met
         self.looked.add((t, k))
 
     def row_move(self, t, a):
+        need(t in self.fields, "deed")
         self.use(t, len(self.fields[t]), a)
 
     def row_end(self):
-        assert self.on and not self.owed & self.white
-        shaded = self.at_begin - self.white
-        assert {(t, k) for t in shaded for k in range(len(self.fields[t]))} == self.looked
+        need(self.on, "round")
+        need(not self.owed & self.white and not self.unlooked(), "colour")
         self.on = False
         gone = self.white
         self.at_begin, self.white = set(), set()
@@ -267,28 +357,53 @@ class LogReader:
 
 
 class Mirror:
-    """A hall with a collector beside the ideal heap that is told only the turns."""
+    """A hall with a collector beside the ideal heap that is told only the turns.
+
+    gone has, for each row small or end of the hall's log, what went from the ideal heap.
+    """
 
     def __init__(self, hall, ideal):
         self.hall, self.ideal = hall, ideal
-        self.rows, self.reader = 0, None
+        self.rows, self.reader, self.gone = 0, None, []
 
     def both(self, deed, *parts):
         """A deed on both: the same told, or the same refusal; a pair (told, refusal's name)."""
-        answers = []
+        answers, before, rows = [], self.ideal.things(), len(self.hall.log())
         for heap in (self.hall, self.ideal):
             try:
                 answers.append((getattr(heap, deed)(*parts), None))
             except HeapError as error:
                 answers.append((None, error.called()))
         assert answers[0] == answers[1], (deed, parts, answers)
+        self.note_gone(before, rows)
         return answers[0]
 
     def step(self, k):
+        before, rows = self.ideal.things(), len(self.hall.log())
         ended = self.hall.step(k)
         if ended:
             self.ideal.end()
+        self.note_gone(before, rows)
         return ended
+
+    def start(self, program):
+        self.runs = (Running(program, self.hall), Running(program, self.ideal))
+
+    def row(self):
+        """One row of the program on both: the same said, the same fault, the same place; whether it goes on."""
+        before, rows = self.ideal.things(), len(self.hall.log())
+        goes_on = [run.step() for run in self.runs]
+        told = [(run.told(), run.fault(), run.at(), run.steps()) for run in self.runs]
+        assert goes_on[0] is goes_on[1] and told[0] == told[1], told
+        self.note_gone(before, rows)
+        return goes_on[0]
+
+    def note_gone(self, before, rows):
+        """One deed or turn does one small round or end at the most."""
+        gone = [t for t in before if t not in self.ideal.things()]
+        ends = [row for row in self.hall.log()[rows:] if row in (("small",), ("end",))]
+        assert len(ends) == 1 or not ends and not gone
+        self.gone.extend([gone] * len(ends))
 
     def asked(self):
         """All that is asked of hands, by both."""
@@ -314,6 +429,7 @@ class Mirror:
             self.reader.read_on(log, self.rows)
         self.rows = len(log)
         reader, ideal = self.reader, self.ideal
+        assert reader.wrong is None and reader.gone == self.gone, (reader.wrong, reader.gone, self.gone)
         assert sorted(reader.stands.items()) == self.hall.book()
         assert sorted(reader.fields) == ideal.things()
         assert reader.hands == ideal.hands() and reader.names == ideal.names()
