@@ -1,7 +1,6 @@
 """Papers of what went in a great round: what was reached or read back, and all other things."""
 
 from stillheap.cuts import paper_judged, reach_paper
-from stillheap.reach import look_at_thing, look_at_view
 
 
 def round_paper(view, read):
@@ -15,12 +14,12 @@ def round_judged(view, read, paper):
     return paper_judged(rooted, paper[0]) and list(paper[1]) == things_without(view, paper[0])
 
 
-# The view with the things read back, each once, as roots behind its own.
+# The view with the things read back, each once, as roots behind its own. It is
+# a view just where the one handed in is one and has them all: so it alone is
+# looked at, by whoever takes it.
 def rooted_view(view, read):
-    look_at_view(view)
     given_back = {}
     for thing in read:
-        look_at_thing(view, thing)
         given_back[thing] = True
     return (view[0] + sorted(given_back), view[1])
 

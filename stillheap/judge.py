@@ -10,42 +10,42 @@ from stillheap.values import look_at_hand, words_of
 
 
 def judged(log):
-    judge = LogJudge()
-    wrong = judge.first_wrong(log)
-    if wrong is not None:
-        return ("wrong", wrong[0], wrong[1])
-    return ("right", judge.gone_lists)
+    run = gone_through(log)
+    if run[2] is not None:
+        return ("wrong", run[1], run[2])
+    return ("right", run[0].gone_lists)
 
 
 def standing(log):
-    judge = LogJudge()
-    wrong = judge.first_wrong(log)
-    if wrong is not None:
-        at = wrong[0]
+    run = gone_through(log)
+    if run[2] is not None:
+        at = run[1]
         raise BadLog(f"the row at {at} is not right", at)
+    judge = run[0]
     return (judge.colours_now.all_white(), judge.colours_now.fields_waiting(), judge.plots.all_plots())
 
 
-# Goes through one log. The first wrong row ends it: so a row that is refused
+# The judge behind the right rows, and the place of the first one that is not
+# right and why, both None where all are.
+def gone_through(log):
+    if len(log) == 0 or not is_log_row(log[0]) or log[0][0] != "room":
+        return (None, 0, "form")
+    judge = LogJudge(log[0][1], log[0][2])
+    for at, row in enumerate(log[1:], start=1):
+        why = judge.why_wrong(row)
+        if why is not None:
+            return (judge, at, why)
+    return (judge, None, None)
+
+
+# The first row that is not right ends a log: so one that is refused when it is
 # half done is not taken back.
 class LogJudge:
-    def __init__(self):
-        self.heap = Heap(False)
-        self.plots = Plots(0)
+    def __init__(self, words, makes_young):
+        self.heap = Heap(makes_young)
+        self.plots = Plots(words)
         self.colours_now = RoundColours()
         self.gone_lists = []
-
-    # The place of the first row that is not right, and why; else None.
-    def first_wrong(self, log):
-        if len(log) == 0 or not is_log_row(log[0]) or log[0][0] != "room":
-            return (0, "form")
-        self.plots = Plots(log[0][1])
-        self.heap = Heap(log[0][2])
-        for at, row in enumerate(log[1:], start=1):
-            why = self.why_wrong(row)
-            if why is not None:
-                return (at, why)
-        return None
 
     def why_wrong(self, row):
         if not is_log_row(row) or row[0] not in ROWS:

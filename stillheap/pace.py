@@ -8,6 +8,7 @@ from stillheap.values import MOST_LIMIT, words_of
 
 MOST_PACE = 100
 MOST_STEPS = 2000
+COSTLY = ("make", "load", "store", "read")
 
 
 def room_needed(most, pace):
@@ -59,9 +60,10 @@ class Paced:
         if not self.hall.round_on():
             self.hall.begin()
             self.note_cost()
-        self.do_row()
-        if self.rows[place][0] == "make" and self.running.fault() is None:
-            self.do_step(self.pace * words_of(self.rows[place][2]))
+        row = self.rows[place]
+        self.do_row(row[0])
+        if row[0] == "make" and self.running.fault() is None:
+            self.do_step(self.pace * words_of(row[2]))
         self.held_most = max(self.held_most, self.hall.held())
         return self.running.at() is not None
 
@@ -80,12 +82,11 @@ class Paced:
     def dearest(self):
         return self.dearest_cost
 
-    # A row that did nothing on the hall leaves the cost of what was done
-    # before, which may be none of this run's.
-    def do_row(self):
-        before = len(self.hall.log())
+    # Behind another row the hall may still tell the cost of what was done
+    # ahead of this run. A make that is refused may have done a small round.
+    def do_row(self, word):
         self.running.step()
-        if len(self.hall.log()) > before:
+        if word in COSTLY and self.running.fault() in (None, "NoRoom"):
             self.note_cost()
 
     def do_step(self, k):

@@ -109,7 +109,7 @@ class AddressTest(unittest.TestCase):
 
     def test_a_heads_word_in_a_field_makes_no_thing(self):
         boxes = three()
-        boxes.put(0, 0, head(3, 0))
+        boxes.put(0, 0, head(3, 1))
         for call in (lambda: boxes.thing(1), lambda: boxes.put(1, 0, None), lambda: boxes.clear(1)):
             self.assertEqual(refusal(call), "BadAddress")
 

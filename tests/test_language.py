@@ -247,6 +247,14 @@ class LanguageTest(unittest.TestCase):
                 is_docstring = node.lineno == 1
                 self.assertTrue(is_docstring or isinstance(node.value, ast.Call), where(name, node))
 
+    def test_errors_are_made_where_they_are_raised(self):
+        errors = {node.name for node in trees()["errors.py"].body if isinstance(node, ast.ClassDef)}
+        for name, node in nodes(ast.Raise):
+            self.assertIsInstance(node.exc, ast.Call, where(name, node))
+            self.assertIn(getattr(node.exc.func, "id", None), errors, where(name, node))
+        for name, node in nodes(ast.ExceptHandler):
+            self.assertIn(node.type.id, errors, where(name, node))
+
     def test_values(self):
         for name, node in nodes((ast.Constant, ast.BinOp, ast.ListComp, ast.FormattedValue)):
             if isinstance(node, ast.Constant):

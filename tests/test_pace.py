@@ -174,14 +174,47 @@ class TurnsTest(unittest.TestCase):
                 self.assertEqual((paced.fault(), paced.told()), (fault, []))
                 self.assertEqual([row for row in hall.log()[len(before):] if row[0] in ("make", "look", "end")], [])
 
-    def test_a_small_round_of_a_make_that_is_refused_costs(self):
-        hall = Marker(7, 9)
-        paced = Paced(read_program("make 0 1\nmake 1 4\nmake 2 6"), hall, 1)
+    def test_the_dearest_cost_may_be_a_rows_own(self):
+        hall = OldMover(60)
+        hall.make(0, 1)
+        hall.make(1, 6)
+        hall.store(0, 0, 1)
+        hall.drop(1)
+        hall.begin()
+        paced = Paced(read_program("load 2 0 0\nsay 2"), hall, 1)
         paced.step()
+        self.assertEqual((hall.cost(), paced.dearest()), ((0, 7), (0, 7)))
+
+    def full(self, limit):
+        """A round is on with eighteen fields left; the young room is full, with a thing of six fields in hand 3."""
+        hall = Marker(7, limit)
+        for h in range(3):
+            hall.make(h, 6)
+        hall.begin()
+        hall.make(3, 6)
+        self.assertEqual(hall.left(), 18)
+        return hall
+
+    def test_the_small_round_of_a_make_costs(self):
+        hall = self.full(100)
+        paced = Paced(read_program("make 4 0"), hall, 2)
         paced.step()
-        self.assertEqual(paced.dearest(), (1, 0))
+        self.assertEqual((paced.fault(), hall.cost(), paced.dearest()), (None, (2, 0), (6, 0)))
+
+    def test_the_small_round_of_a_make_that_is_refused_costs(self):
+        hall = self.full(28)
+        paced = Paced(read_program("make 4 0"), hall, 1)
         paced.step()
-        self.assertEqual((paced.fault(), hall.cost(), paced.dearest()), ("NoRoom", (4, 0), (4, 0)))
+        self.assertEqual((paced.fault(), hall.cost(), paced.dearest()), ("NoRoom", (6, 0), (6, 0)))
+
+    def test_what_was_done_ahead_of_the_run_costs_nothing_in_it(self):
+        hall = OldMover(60)
+        hall.make(0, 6)
+        hall.begin()
+        paced = Paced(read_program("say 0\nload 1 1 0"), hall, 1)
+        self.assertIs(paced.step(), True)
+        self.assertIs(paced.step(), False)
+        self.assertEqual((hall.cost(), paced.dearest()), ((0, 7), (0, 0)))
 
     def test_a_step_behind_the_stop(self):
         for text in ("stop", "make 0 2", "drop 9"):
